@@ -1,0 +1,1 @@
+"""Pieces of text led to words of one length."""
