@@ -1,7 +1,7 @@
 """Books: pieces of which every long text begins with just one."""
 
 from piecebooks.errors import NoBook
-from piecebooks.sources import FEWEST_LETTERS, LETTERS, is_text_of, is_whole, require_text_of
+from piecebooks.sources import FEWEST_LETTERS, LETTERS, is_text_of, is_whole, require_source, require_text_of
 
 MOST_PIECES = 32
 
@@ -34,12 +34,23 @@ def require_book(many, thing):
         raise NoBook("this is no book of so many letters")
 
 
+def require_book_of(source, thing):
+    require_source(source)
+    require_book(len(source), thing)
+
+
 def gone_on(many, texts):
     longer = []
     for text in texts:
         for letter in LETTERS[:many]:
             longer.append(text + letter)
     return longer
+
+
+# What a piece goes on to stands where it stood, so the pieces are rising still.
+def parted(many, pieces, piece):
+    place = pieces.index(piece)
+    return pieces[:place] + tuple(gone_on(many, [piece])) + pieces[place + 1:]
 
 
 def is_inner(pieces, text):

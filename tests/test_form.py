@@ -1,6 +1,7 @@
 """The rules of the language that a walk over the package's files can see."""
 
 import ast
+import builtins
 import re
 import unittest
 from pathlib import Path
@@ -49,6 +50,14 @@ def bound_names(tree):
         elif isinstance(node, ast.ExceptHandler) and node.name:
             names.add(node.name)
     return names
+
+
+def top_names(node):
+    if isinstance(node, (ast.FunctionDef, ast.ClassDef)):
+        return [node.name]
+    if isinstance(node, ast.Assign):
+        return [target.id for target in node.targets]
+    return []
 
 
 class Form(unittest.TestCase):
@@ -106,6 +115,53 @@ class Form(unittest.TestCase):
                         self.assertEqual(node.level, 0)
                         self.assertTrue((node.module + ".").startswith("piecebooks."))
                         self.assertNotIn("*", [part.name for part in node.names])
+
+    def test_imported_names_are_defined_there_and_used_here(self):
+        defined = {}
+        for path, tree in trees():
+            defined["piecebooks." + path.stem] = {
+                name for node in tree.body if not isinstance(node, ast.ImportFrom) for name in top_names(node)
+            }
+        for path, tree in trees():
+            used = {node.id for node in ast.walk(tree) if isinstance(node, ast.Name)}
+            for node in ast.walk(tree):
+                if isinstance(node, ast.ImportFrom):
+                    for part in node.names:
+                        with self.subTest(path=path, name=part.name):
+                            self.assertIn(part.name, defined[node.module])
+                            self.assertIn(part.name, used)
+
+    def test_no_two_files_draw_from_one_another(self):
+        drawn = {"piecebooks." + path.stem: {node.module for node in tree.body if isinstance(node, ast.ImportFrom)}
+                 for path, tree in trees()}
+        while drawn:
+            free = [name for name in drawn if not drawn[name] & set(drawn)]
+            self.assertTrue(free, sorted(drawn))
+            for name in free:
+                del drawn[name]
+
+    def test_locals_are_called_like_nothing_else(self):
+        for path, tree in trees():
+            taken = set(dir(builtins))
+            for node in tree.body:
+                if isinstance(node, ast.ImportFrom):
+                    taken |= {part.asname or part.name for part in node.names}
+                if isinstance(node, ast.ClassDef):
+                    taken.add(node.name)
+            for node in ast.walk(tree):
+                if isinstance(node, ast.arg) or isinstance(node, ast.Name) and isinstance(node.ctx, ast.Store):
+                    with self.subTest(path=path, line=node.lineno):
+                        self.assertNotIn(node.arg if isinstance(node, ast.arg) else node.id, taken)
+
+    def test_exponents_and_texts(self):
+        for path, tree in trees():
+            for node in ast.walk(tree):
+                with self.subTest(path=path, line=getattr(node, "lineno", 0)):
+                    if isinstance(node, ast.BinOp) and isinstance(node.op, ast.Pow):
+                        self.assertIsInstance(node.right, ast.Constant)
+                        self.assertIn(node.right.value, range(65))
+                    if isinstance(node, ast.Constant) and type(node.value) is str:
+                        self.assertNotIn("%", node.value)
 
     def test_names(self):
         methods = set()

@@ -4,17 +4,10 @@ from math import gcd
 
 from piecebooks.errors import NoLetters, NoSource
 from piecebooks.sources import added, is_less, is_source, share
-from tests.things import Refusals, nested, strange_things, texts_up_to
+from tests.things import Refusals, as_tuple, nested, plain_share, strange_things, texts_up_to
 
 SOURCES = [(1, 1), (5, 2), (99, 1), (2, 4), (99, 99), (5, 2, 1), (3, 3, 3), (10, 20, 30), (5, 2, 1, 1),
            (1, 99, 1, 99), (99, 99, 99, 99), (2, 3, 5, 7)]
-
-
-def plain_share(source, text):
-    product = Fraction(1)
-    for letter in text:
-        product *= Fraction(source["abcd".index(letter)], sum(source))
-    return (product.numerator, product.denominator)
 
 
 class IsSource(unittest.TestCase):
@@ -69,7 +62,7 @@ class Share(unittest.TestCase, Refusals):
         for source in SOURCES:
             for text in texts_up_to(len(source), 4) + ["ab" * 40, "b" * 200]:
                 with self.subTest(source=source, text=text):
-                    self.assertEqual(share(source, text), plain_share(source, text))
+                    self.assertEqual(share(source, text), as_tuple(plain_share(source, text)))
 
     def test_told_are_tuples_of_whole_numbers_in_lowest_terms(self):
         for source in SOURCES:

@@ -1,6 +1,8 @@
 """What several tests need: things of every kind, and a slow, plain judgement of books."""
 
+from fractions import Fraction
 from itertools import combinations, product
+from random import Random
 
 LETTERS = "abcd"
 
@@ -71,6 +73,61 @@ def comb(many, size):
         pieces.remove(last)
         pieces.extend(last + letter for letter in LETTERS[:many])
     return tuple(sorted(pieces))
+
+
+def as_tuple(fraction):
+    return (fraction.numerator, fraction.denominator)
+
+
+def plain_share(source, text):
+    result = Fraction(1)
+    for letter in text:
+        result *= Fraction(source[LETTERS.index(letter)], sum(source))
+    return result
+
+
+def plain_inner(book):
+    return sorted({piece[:end] for piece in book for end in range(len(piece))})
+
+
+def plain_mean(source, book):
+    return sum(plain_share(source, piece) * len(piece) for piece in book)
+
+
+def drawn_sources(count):
+    """The same sources each time, of two, three and four letters in turn, of small and of great weights."""
+    draw = Random(20261117)
+    return [
+        tuple(draw.randint(1, draw.choice((3, 9, 99))) for _ in range(2 + number % 3))
+        for number in range(count)
+    ]
+
+
+def drawn_book(draw, many, partings):
+    pieces = list(LETTERS[:many])
+    for _ in range(partings - 1):
+        piece = draw.choice(pieces)
+        pieces.remove(piece)
+        pieces.extend(piece + letter for letter in LETTERS[:many])
+    return tuple(sorted(pieces))
+
+
+def drawn_books(many, count):
+    """The same books each time, of 1 to as many partings as there may be."""
+    draw = Random(many)
+    most = 31 // (many - 1)
+    return [drawn_book(draw, many, 1 + number % most) for number in range(count)]
+
+
+def drawn_texts(many, count, longest):
+    draw = Random(many + 10)
+    return ["".join(draw.choices(LETTERS[:many], k=draw.randint(0, longest))) for _ in range(count)]
+
+
+def no_sizes(many):
+    """Things of every kind that are no size for so many letters, those just beyond both edges first."""
+    kept = [thing for thing in strange_things() if type(thing) is not int or not many <= thing <= 32]
+    return [many - 1, 33, 34, 0, 1, -many, str(many), (many,), [many], (many, many)] + kept
 
 
 class Refusals:
