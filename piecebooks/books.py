@@ -1,6 +1,6 @@
 """Books: pieces of which every long text begins with just one."""
 
-from piecebooks.errors import NoBook
+from piecebooks.errors import NoBook, NoPiece
 from piecebooks.sources import FEWEST_LETTERS, LETTERS, is_text_of, is_whole, require_source, require_text_of
 
 MOST_PIECES = 32
@@ -39,6 +39,11 @@ def require_book_of(source, thing):
     require_book(len(source), thing)
 
 
+def require_piece(book, thing):
+    if thing not in book:
+        raise NoPiece("this is no piece of the book")
+
+
 def gone_on(many, texts):
     longer = []
     for text in texts:
@@ -51,6 +56,10 @@ def gone_on(many, texts):
 def parted(many, pieces, piece):
     place = pieces.index(piece)
     return pieces[:place] + tuple(gone_on(many, [piece])) + pieces[place + 1:]
+
+
+def is_beginning(pieces, text):
+    return any([piece.startswith(text) for piece in pieces])
 
 
 def is_inner(pieces, text):

@@ -1,7 +1,7 @@
 """Words: the numbers of pieces in their book, all of one length, there and back."""
 
-from piecebooks.books import cut, require_book
-from piecebooks.errors import NoPiece, NoWord
+from piecebooks.books import cut, require_book, require_piece
+from piecebooks.errors import NoWord
 from piecebooks.means import bits_for
 
 
@@ -20,8 +20,7 @@ def words_of(book):
 
 def word_of(many, book, piece):
     require_book(many, book)
-    if piece not in book:
-        raise NoPiece("this is no piece of the book")
+    require_piece(book, piece)
     return words_of(book)[book.index(piece)]
 
 

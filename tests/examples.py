@@ -1,7 +1,7 @@
 """Books, pieces that are none, and what is near to them, for several tests."""
 
 from piecebooks.books import even_book
-from tests.things import comb, nested
+from tests.things import comb, nested, strange_things
 
 BOOKS = [
     (2, ("a", "b")),
@@ -88,3 +88,16 @@ SOURCES = [(1, 1), (5, 2), (99, 1), (1, 99), (2, 4), (99, 99), (5, 2, 1), (3, 3,
 # Near to sources.
 NO_SOURCES = [(1,), (1, 1, 1, 1, 1), (0, 1), (1, 0), (100, 1), (1, 100), (True, 1), (1, True), [1, 1], [5, 2, 1],
               (5, "2"), (5, None), ((5, 2), 1), "ab", "", 2, 3, 4, ("a", "b")]
+
+# The greatest sizes with no more than 200 books.
+SMALL = {2: 7, 3: 10, 4: 15}
+
+
+def no_books():
+    """Numbers of letters with what is no book of theirs, near to one and of every kind."""
+    near = NO_PIECES + [(many, pieces) for many, pieces, paper in NO_BOOKS]
+    kinds = strange_things() + ["", "a", "ab", "0", 2, 3, 4, (1, 2), ("a",), ["a", "b"]]
+    wrong = NO_NUMBERS + strange_things()
+    others = [(other, book) for many, book in BOOKS for other in (2, 3, 4) if other != many]
+    return (near + others + [(many, thing) for many in (2, 3, 4) for thing in kinds]
+            + [(number, book) for number in wrong for book in (("a", "b"), ("a", "b", "c"), None)])

@@ -5,26 +5,13 @@ from piecebooks.best import all_books, best_book, better, greatest_mean, how_man
 from piecebooks.books import even_book, first_book, is_book
 from piecebooks.errors import NoBook, NoSize, NoSource
 from piecebooks.means import mean
-from tests.examples import BOOKS, NO_BOOKS, NO_NUMBERS, NO_PIECES, NO_SOURCES, SOURCES
+from tests.examples import BOOKS, NO_BOOKS, NO_NUMBERS, NO_PIECES, NO_SOURCES, SMALL, SOURCES
 from tests.things import (
-    LETTERS, Refusals, as_tuple, comb, drawn_books, drawn_sources, no_sizes, plain_inner, plain_mean, plain_share,
-    plainly_book, rising_tuples, strange_things, texts_up_to,
+    LETTERS, Refusals, as_tuple, comb, drawn_books, drawn_sources, no_sizes, plain_best, plain_inner, plain_mean,
+    plain_share, plainly_book, rising_tuples, strange_things, texts_up_to,
 )
 
-# The greatest sizes with no more than 200 books.
-SMALL = {2: 7, 3: 10, 4: 15}
 SOME_SOURCE = {2: (5, 2), 3: (5, 2, 1), 4: (5, 2, 1, 1)}
-
-
-def plain_best(source, size):
-    """Grown with fractions, sorted anew each time: slow and plain."""
-    pieces = sorted(LETTERS[:len(source)])
-    while len(pieces) + len(source) - 1 <= size:
-        greatest = max(plain_share(source, piece) for piece in pieces)
-        piece = [piece for piece in pieces if plain_share(source, piece) == greatest][0]
-        pieces = sorted([other for other in pieces if other != piece]
-                        + [piece + letter for letter in LETTERS[:len(source)]])
-    return tuple(pieces)
 
 
 def small_books():

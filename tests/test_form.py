@@ -32,6 +32,16 @@ WORDS = re.compile(
 )
 
 
+NOT_NAMES = set(
+    "attrgetter breakpoint builtins compile copyright credits delattr dir eval exec exit gc getattr globals hasattr help "
+    "id importlib license locals methodcaller os quit setattr super type vars sys __name__".split()
+)
+NOWHERE = set("register mro elements open input version_info with_traceback add_note format format_map".split())
+DOUBLE = set("__init__ __eq__ __repr__ __str__ __len__".split())
+VALUES = set("count index title find get join lower upper split strip copy add".split())
+OF_PYTHON = {name for kind in (str, int, list, dict, set, bytes, tuple) for name in dir(kind)} | {"args"}
+
+
 def trees():
     return [(path.relative_to(PACKAGE), ast.parse(path.read_text("utf-8"))) for path in FILES]
 
@@ -182,6 +192,99 @@ class Form(unittest.TestCase):
                 if isinstance(node, ast.Attribute):
                     with self.subTest(path=path, line=node.lineno):
                         self.assertIn(node.attr, METHODS | methods)
+
+    def test_names_that_are_not_used(self):
+        for path, tree in trees():
+            for node in ast.walk(tree):
+                with self.subTest(path=path, line=getattr(node, "lineno", 0)):
+                    if isinstance(node, ast.Name):
+                        self.assertNotIn(node.id, NOT_NAMES | NOWHERE)
+                    if isinstance(node, ast.Attribute):
+                        self.assertNotIn(node.attr, NOWHERE)
+            self.assertEqual(bound_names(tree) & (NOT_NAMES | NOWHERE), set())
+
+    def test_classes_hold_methods_alone(self):
+        for path, tree in trees():
+            for node in ast.walk(tree):
+                if isinstance(node, ast.ClassDef):
+                    with self.subTest(path=path, name=node.name):
+                        self.assertIn(node, tree.body)
+                        self.assertLessEqual(len(node.bases), 1)
+                        self.assertEqual(node.keywords, [])
+                        names = [part.name for part in node.body if isinstance(part, ast.FunctionDef)]
+                        self.assertEqual(len(names), len(set(names)))
+                        for part in node.body:
+                            self.assertIsInstance(part, (ast.FunctionDef, ast.Pass))
+                        self.assertLessEqual({name for name in names if name.startswith("_")}, DOUBLE)
+
+    def test_methods_and_values_of_objects(self):
+        methods = set()
+        values = set()
+        for path, tree in trees():
+            for node in ast.walk(tree):
+                if isinstance(node, ast.ClassDef):
+                    methods |= {part.name for part in node.body if isinstance(part, ast.FunctionDef)}
+                if isinstance(node, ast.Attribute) and isinstance(node.ctx, ast.Store):
+                    values.add(node.attr)
+                    self.assertIsInstance(node.value, ast.Name)
+                    self.assertNotIn(node.value.id, {name for part in tree.body for name in top_names(part)})
+        self.assertEqual(methods & values, set())
+        self.assertEqual(methods & (OF_PYTHON - METHODS - DOUBLE - {"add", "discard"}), set())
+        self.assertEqual(values & (OF_PYTHON - VALUES), set())
+
+    def test_making_an_object_gives_back_nothing(self):
+        for path, tree in trees():
+            for node in ast.walk(tree):
+                if isinstance(node, ast.FunctionDef) and node.name == "__init__":
+                    with self.subTest(path=path, line=node.lineno):
+                        self.assertFalse(any(isinstance(part, ast.Return) for part in ast.walk(node)))
+
+    def test_classes_are_called_or_named_as_a_base(self):
+        classes = {name for path, tree in trees() for node in tree.body if isinstance(node, ast.ClassDef)
+                   for name in [node.name]}
+        for path, tree in trees():
+            free = []
+            for node in ast.walk(tree):
+                if isinstance(node, ast.Call):
+                    free.append(node.func)
+                    if isinstance(node.func, ast.Name) and node.func.id == "isinstance":
+                        free.extend(ast.walk(node.args[1]))
+                if isinstance(node, ast.ClassDef):
+                    free.extend(node.bases)
+                if isinstance(node, ast.ExceptHandler) and node.type:
+                    free.extend(ast.walk(node.type))
+                if isinstance(node, ast.Attribute) and node.attr == "__init__":
+                    free.append(node.value)
+            for node in ast.walk(tree):
+                if isinstance(node, ast.Name) and node.id in classes:
+                    with self.subTest(path=path, line=node.lineno):
+                        self.assertIn(node, free)
+
+    def test_sets_are_not_kept_and_not_walked(self):
+        for path, tree in trees():
+            sets = [node for node in ast.walk(tree) if isinstance(node, ast.Set) or isinstance(node, ast.Call)
+                    and isinstance(node.func, ast.Name) and node.func.id in ("set", "frozenset")]
+            free = []
+            for node in ast.walk(tree):
+                if isinstance(node, ast.Call) and isinstance(node.func, ast.Name) and node.func.id in ("sorted", "len"):
+                    for part in node.args if node.keywords == [] else []:
+                        while isinstance(part, ast.BinOp):
+                            free.append(part.right)
+                            part = part.left
+                        free.append(part)
+                if isinstance(node, ast.Compare):
+                    free.extend([node.left] + node.comparators)
+            for node in sets:
+                with self.subTest(path=path, line=node.lineno):
+                    self.assertIn(node, free)
+
+    def test_handlers_name_their_errors(self):
+        for path, tree in trees():
+            for node in ast.walk(tree):
+                if isinstance(node, ast.ExceptHandler):
+                    with self.subTest(path=path, line=node.lineno):
+                        self.assertIsInstance(node.type, ast.Name)
+                        self.assertNotIn(node.type.id, ("Exception", "TypeError"))
 
     def test_is_stands_beside_none_and_truths(self):
         for path, tree in trees():

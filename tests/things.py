@@ -94,6 +94,17 @@ def plain_mean(source, book):
     return sum(plain_share(source, piece) * len(piece) for piece in book)
 
 
+def plain_best(source, size):
+    """Grown with fractions, sorted anew each time: slow and plain."""
+    pieces = sorted(LETTERS[:len(source)])
+    while len(pieces) + len(source) - 1 <= size:
+        greatest = max(plain_share(source, piece) for piece in pieces)
+        piece = [piece for piece in pieces if plain_share(source, piece) == greatest][0]
+        pieces = sorted([other for other in pieces if other != piece]
+                        + [piece + letter for letter in LETTERS[:len(source)]])
+    return tuple(pieces)
+
+
 def drawn_sources(count):
     """The same sources each time, of two, three and four letters in turn, of small and of great weights."""
     draw = Random(20261117)
