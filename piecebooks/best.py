@@ -3,11 +3,11 @@
 from piecebooks.books import MOST_PIECES, first_book, gone_on, is_number_of_letters, parted
 from piecebooks.errors import NoSize
 from piecebooks.means import first_greatest, greatest_piece, least_inner, mean, shares_of
-from piecebooks.sources import is_less, is_whole, require_source, share
+from piecebooks.sources import is_between, is_less, require_source, share
 
 
 def is_size(many, thing):
-    return is_number_of_letters(many) and is_whole(thing) and many <= thing <= MOST_PIECES
+    return is_number_of_letters(many) and is_between(thing, many, MOST_PIECES)
 
 
 def require_size(many, thing):

@@ -1,13 +1,13 @@
 """Books: pieces of which every long text begins with just one."""
 
 from piecebooks.errors import NoBook, NoPiece
-from piecebooks.sources import FEWEST_LETTERS, LETTERS, is_text_of, is_whole, require_source, require_text_of
+from piecebooks.sources import FEWEST_LETTERS, LETTERS, is_between, is_text_of, require_source, require_text_of
 
 MOST_PIECES = 32
 
 
 def is_number_of_letters(thing):
-    return is_whole(thing) and FEWEST_LETTERS <= thing <= len(LETTERS)
+    return is_between(thing, FEWEST_LETTERS, len(LETTERS))
 
 
 def is_rising(texts):
@@ -141,9 +141,8 @@ def inner_of(book):
     return sorted(found)
 
 
-def cut(many, book, text):
-    require_book(many, book)
-    require_text_of(many, text)
+# Judges nothing: for those who cut by one book again and again.
+def cut_by(book, text):
     pieces = []
     left = ""
     for letter in text:
@@ -152,3 +151,9 @@ def cut(many, book, text):
             pieces.append(left)
             left = ""
     return (pieces, left)
+
+
+def cut(many, book, text):
+    require_book(many, book)
+    require_text_of(many, text)
+    return cut_by(book, text)

@@ -1,6 +1,6 @@
 """Letters, sources that weigh them, and fractions."""
 
-from piecebooks.errors import NoLetters, NoSource
+from piecebooks.errors import NoLetters, NoSize, NoSource
 
 LETTERS = "abcd"
 FEWEST_LETTERS = 2
@@ -12,8 +12,12 @@ def is_whole(thing):
     return isinstance(thing, int) and not isinstance(thing, bool)
 
 
+def is_between(thing, least, most):
+    return is_whole(thing) and least <= thing <= most
+
+
 def is_weight(thing):
-    return is_whole(thing) and 1 <= thing <= GREATEST_WEIGHT
+    return is_between(thing, 1, GREATEST_WEIGHT)
 
 
 def is_source(thing):
@@ -38,6 +42,11 @@ def require_source(thing):
 def require_text_of(many, thing):
     if not is_text_of(many, thing):
         raise NoLetters("this is no text of these letters")
+
+
+def require_between(thing, least, most):
+    if not is_between(thing, least, most):
+        raise NoSize("this is no whole number within its bounds")
 
 
 def greatest_divisor(one, other):

@@ -1,8 +1,9 @@
 """Words: the numbers of pieces in their book, all of one length, there and back."""
 
-from piecebooks.books import cut, require_book, require_piece
+from piecebooks.books import cut_by, require_book, require_piece
 from piecebooks.errors import NoWord
 from piecebooks.means import bits_for
+from piecebooks.sources import require_text_of
 
 
 def word_for(number, bits):
@@ -32,10 +33,17 @@ def piece_of(many, book, word):
     return book[words.index(word)]
 
 
-def led(many, book, text):
-    found = cut(many, book, text)
+# Judges nothing: for those who lead by one book again and again.
+def led_by(book, text):
+    found = cut_by(book, text)
     words = dict(zip(book, words_of(book)))
     return ("".join([words[piece] for piece in found[0]]), found[1])
+
+
+def led(many, book, text):
+    require_book(many, book)
+    require_text_of(many, text)
+    return led_by(book, text)
 
 
 def whole_words(book, signs):

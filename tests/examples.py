@@ -1,7 +1,7 @@
 """Books, pieces that are none, and what is near to them, for several tests."""
 
 from piecebooks.books import even_book
-from tests.things import comb, nested, strange_things
+from tests.things import comb, drawn_books, nested, strange_things
 
 BOOKS = [
     (2, ("a", "b")),
@@ -20,6 +20,11 @@ BOOKS = [
     (4, comb(4, 31)),
     (4, even_book(4, 2)),
 ]
+
+# For two, three and four letters, each of fewer pieces than its words can number.
+THREE = ("aa", "ab", "b")
+FIVE = ("a", "ba", "bb", "bc", "c")
+SEVEN = ("a", "b", "c", "da", "db", "dc", "dd")
 
 # Pieces that are no book, with the paper that why_not tells.
 NO_BOOKS = [
@@ -93,6 +98,10 @@ NO_SOURCES = [(1,), (1, 1, 1, 1, 1), (0, 1), (1, 0), (100, 1), (1, 100), (True, 
 SMALL = {2: 7, 3: 10, 4: 15}
 
 
+def all_the_books():
+    return BOOKS + [(many, book) for many in (2, 3, 4) for book in drawn_books(many, 31)]
+
+
 def no_books():
     """Numbers of letters with what is no book of theirs, near to one and of every kind."""
     near = NO_PIECES + [(many, pieces) for many, pieces, paper in NO_BOOKS]
@@ -101,3 +110,9 @@ def no_books():
     others = [(other, book) for many, book in BOOKS for other in (2, 3, 4) if other != many]
     return (near + others + [(many, thing) for many in (2, 3, 4) for thing in kinds]
             + [(number, book) for number in wrong for book in (("a", "b"), ("a", "b", "c"), None)])
+
+
+def no_books_of_sources():
+    """Sources with what is no book of their letters."""
+    some = {2: (5, 2), 3: (5, 2, 1), 4: (5, 2, 1, 1)}
+    return [(some[many], thing) for many, thing in no_books() if type(many) is int and many in some]

@@ -7,8 +7,8 @@ from piecebooks.errors import NoBook, NoSize, NoSource
 from piecebooks.means import mean
 from tests.examples import BOOKS, NO_BOOKS, NO_NUMBERS, NO_PIECES, NO_SOURCES, SMALL, SOURCES
 from tests.things import (
-    LETTERS, Refusals, as_tuple, comb, drawn_books, drawn_sources, no_sizes, plain_best, plain_inner, plain_mean,
-    plain_share, plainly_book, rising_tuples, strange_things, texts_up_to,
+    Refusals, as_tuple, comb, drawn_books, drawn_sources, no_sizes, plain_best, plain_inner, plain_mean, plain_share,
+    plainly_book, rising_tuples, strange_things, texts_up_to,
 )
 
 SOME_SOURCE = {2: (5, 2), 3: (5, 2, 1), 4: (5, 2, 1, 1)}

@@ -5,20 +5,13 @@ from piecebooks.best import all_books
 from piecebooks.books import even_book, first_book, is_book
 from piecebooks.errors import NoBook, NoPiece
 from piecebooks.means import mean
-from tests.examples import BOOKS, SMALL, SOURCES, no_books
+from tests.examples import BOOKS, FIVE, SEVEN, SMALL, SOURCES, THREE, all_the_books, no_books
 from tests.things import (
     LETTERS, Refusals, comb, drawn_books, plain_inner, plain_mean, strange_things, texts_up_to,
 )
 
-THREE = ("aa", "ab", "b")
-FIVE = ("a", "ba", "bb", "bc", "c")
-SEVEN = ("a", "b", "c", "da", "db", "dc", "dd")
 # Sizes of which all books are held against one another.
 PAIRED = {2: 5, 3: 7, 4: 10}
-
-
-def all_the_books():
-    return BOOKS + [(many, book) for many in (2, 3, 4) for book in drawn_books(many, 31)]
 
 
 def small_pairs():

@@ -4,14 +4,10 @@ from piecebooks.best import all_books
 from piecebooks.books import even_book, first_book
 from piecebooks.errors import NoBook, NoSource, NoText
 from piecebooks.texts import book_text, read_book, read_source, source_text
-from tests.examples import BOOKS, NO_NUMBERS, NO_SOURCES, SMALL, SOURCES, no_books
-from tests.things import Refusals, comb, drawn_books, drawn_sources, strange_things
+from tests.examples import NO_NUMBERS, NO_SOURCES, SMALL, SOURCES, all_the_books, no_books
+from tests.things import Refusals, comb, drawn_sources, strange_things
 
 SIGNS = " \nabcde0123456789AZ~!-+.,\t\r\u00e9"
-
-
-def all_the_books():
-    return BOOKS + [(many, book) for many in (2, 3, 4) for book in drawn_books(many, 20)]
 
 
 def of_lines(lines):

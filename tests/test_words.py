@@ -3,16 +3,8 @@ import unittest
 from piecebooks.books import cut, even_book
 from piecebooks.errors import NoBook, NoLetters, NoPiece, NoWord
 from piecebooks.words import back, from_word, led, piece_of, word_of
-from tests.examples import BOOKS, NO_BOOKS, NO_NUMBERS, NO_PIECES
-from tests.things import Refusals, comb, drawn_books, drawn_texts, nested, strange_things
-
-THREE = ("aa", "ab", "b")
-FIVE = ("a", "ba", "bb", "bc", "c")
-SEVEN = ("a", "b", "c", "da", "db", "dc", "dd")
-
-
-def all_the_books():
-    return BOOKS + [(many, book) for many in (2, 3, 4) for book in drawn_books(many, 31)]
+from tests.examples import BOOKS, FIVE, NO_BOOKS, NO_NUMBERS, NO_PIECES, SEVEN, THREE, all_the_books
+from tests.things import Refusals, comb, drawn_texts, nested, strange_things
 
 
 def plain_words(book):
